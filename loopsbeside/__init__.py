@@ -1,0 +1,1 @@
+"""Loopsbeside: loops that add up, how deep they must be nested, and how few are enough."""

@@ -1,0 +1,49 @@
+"""The names and arguments of the document's interface, as far as it is built."""
+
+import importlib
+import inspect
+import re
+import unittest
+
+INTERFACE = {
+    "errors": "NoPlace(place), NothingDone(), BadLine(line), CanNot(), TooMuch(), Unfit()",
+    "ratios": "is_fraction(thing), fraction(top, bottom), whole(number), plus(x, y), minus(x, y), times(x, y), "
+              "over(x, y), power_of(x, many), is_less(x, y), sign_of(x), reduced(vectors), combination(vectors, goal)",
+    "rows": "is_row(thing), is_fit(row), row_of(parts), row_at(row, n), plus_rows(row, other), scaled(row, x), "
+            "times_rows(row, other), shifted(row, many), dilated(row, many, back)",
+    "letters": "is_letter(thing), is_letters(thing), letters_at(letters, i), row_of_letters(letters), "
+               "plus_letters(letters, other), scaled_letters(letters, x), difference(row), split(row), goes(row), "
+               "total(row), multiple(letters, other), going(rows)",
+    "words": "is_word(thing), is_sum(thing), word_weight(word), longest(one), outer_letters(one), word_at(word, n), "
+             "sum_at(one, n), word_between(word, m, n), plus_sums(one, two), scaled_sum(one, x), "
+             "merged(letter, other), times_sums(one, two), put_ahead(letters, one), taken_off(one, letter), "
+             "cuts(word), turned(one)",
+    "terms": "is_term(thing), is_moves(thing), term_of(row, one), plus_terms(one, two), times_terms(one, two), "
+             "scaled_term(one, row), term_at(one, n), next_term(one), summed(one, row), summed_now(one, row), "
+             "moves_at(moves, i), moves_of(one), from_moves(moves, start), triples_of(one), part_sum(one, triple), "
+             "fixed_worth(one)",
+    "formulas": "is_formula(thing, many), named(formula), formula_at(formula, worths, i), plus_formulas(one, two), "
+                "times_formulas(one, two), scaled_formula(formula, row), more_formula(formula, many), "
+                "put_in(formula, formulas, many)",
+    "programs": "is_program(thing), is_starts(thing, program), is_quest(thing), run(program, starts, rounds), "
+                "values_at(quest, n), level(program, place), length(program, place), weight(program, place), "
+                "poles(program), quest_level(quest), is_within(quest), plain_nest(rows), needed(quest), "
+                "after_round(formula, program)",
+    "forms": "forms(quest), asked_forms(quest), is_alike(quest, other), parting(quest, other), "
+             "is_row_only(quest, which), words_of(quest), quest_of(terms)",
+    "nests": "is_nest(thing), nest_depth(nest), nest_loops(nest), nest_run(nest, rounds), "
+             "nest_values(nest, asked, n), nest_rounds(nest, rounds), rounds_row(nest)",
+}
+
+
+class Interface(unittest.TestCase):
+    def test_names_and_arguments(self):
+        for module_name, listed in INTERFACE.items():
+            module = importlib.import_module("loopsbeside." + module_name)
+            for name, arguments in re.findall(r"(\w+)\(([^)]*)\)", listed):
+                thing = getattr(module, name)
+                self.assertEqual(thing.__module__, "loopsbeside." + module_name, name)
+                if module_name != "errors":
+                    self.assertEqual(str(inspect.signature(thing)), "(" + arguments + ")", name)
+                elif arguments:
+                    self.assertEqual(str(inspect.signature(thing)), "(" + arguments + ")", name)
