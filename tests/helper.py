@@ -4,7 +4,9 @@ import inspect
 import random
 import unittest
 from fractions import Fraction
+from functools import lru_cache
 from itertools import product
+from math import ceil
 
 BASES = [(1, 1), (1, 1), (1, 1), (2, 1), (1, 2), (3, 1), (2, 3), (9, 4)]
 PLACES = [(0, 1), (-1, 2), (-1, 3), (1, 1), (2, 1), (1, 2), (5, 3), (7, 1), (-3, 4), (13, 2)]
@@ -46,6 +48,7 @@ def letters_value(letters, i):
     return sum((letter_value(letter, i) * ratio(x) for letter, x in letters), Fraction(0))
 
 
+@lru_cache(maxsize=None)
 def word_value(word, n, m=0):
     """The sum over all choices n >= i1 > i2 > .. > m, just as the document tells it."""
     if not word:
@@ -99,6 +102,48 @@ def plain_run(program, starts, rounds):
 def plain_values(quest, n):
     state = plain_run(quest[0], quest[1], n)[n]
     return tuple(pair(formula_value(formula, state, n)) for formula in quest[2])
+
+
+def plain_base_weight(base):
+    many = 0
+    for number in base:
+        for factor in (2, 3):
+            while number % factor == 0:
+                number //= factor
+                many += 1
+    return many
+
+
+def plain_row_weight(row):
+    return max([plain_base_weight(base) - min(power, 0) for base, _, power, _ in row], default=0)
+
+
+def plain_sizes(step, before):
+    """Level, length and weight of an accumulator with this STEP; of a FORMULA asked the length is 1 less."""
+    levels = [before[k][0] for powers, _ in step for k, power in enumerate(powers) if power]
+    lengths = [sum(power * size[1] for power, size in zip(powers, before)) for powers, _ in step]
+    weights = [plain_row_weight(row) + sum(power * size[2] for power, size in zip(powers, before))
+               for powers, row in step]
+    return (1 + max(levels, default=0), 1 + max(lengths, default=0), max(weights, default=0))
+
+
+def plain_program_sizes(program):
+    found = []
+    for step in program:
+        found.append(plain_sizes(step, found))
+    return found
+
+
+def plain_poles(formulas):
+    places = {ratio(place) for step in formulas for _, row in step for _, place, power, _ in row if power < 0}
+    return tuple(sorted({pair(place - ceil(place)) for place in places}))
+
+
+def plain_within(quest):
+    sizes = plain_program_sizes(quest[0])
+    asked = [plain_sizes(formula, sizes) for formula in quest[2]]
+    return (all(size[1] <= 6 and size[2] <= 4 for size in sizes) and len(plain_poles(quest[0])) <= 3
+            and all(size[1] - 1 <= 6 and size[2] <= 4 for size in asked))
 
 
 # Values of many kinds
@@ -170,6 +215,38 @@ def random_formula(rng, many, most=3, fit=False, highest=2):
         return tuple(rng.choice([0, 0, 1, rng.randint(0, highest)]) for _ in range(many))
 
     return random_pairs(rng, most, powers, lambda: random_some(rng, make, 2))
+
+
+def light_row(rng, fit=False):
+    """A random ROW of a small weight, so that loops within loops stay within."""
+    parts = {}
+    for _ in range(rng.choice([1, 1, 1, 2])):
+        power = rng.choice([-1, -1, -1, -1, -2, 0, 1, 3])
+        places = [(1, 1), (3, 2), (2, 1)] if fit else [(0, 1), (0, 1), (-1, 2), (-1, 3), (1, 1), (3, 2)]
+        base = rng.choice([(1, 1)] * 8 + [(2, 1), (1, 2), (3, 1)])
+        parts[(base, rng.choice(places) if power < 0 else (0, 1), power)] = random_worth(rng)
+    return tuple((*triple, parts[triple]) for triple in sorted(parts))
+
+
+def light_formula(rng, many, most=2, fit=False):
+    """A random FORMULA that names few accumulators."""
+
+    def powers():
+        chosen = [rng.randrange(many) for _ in range(rng.choice([0, 1, 1, 1, 2]))] if many else []
+        return tuple(chosen.count(place) for place in range(many))
+
+    return random_pairs(rng, most, powers, lambda: light_row(rng, fit))
+
+
+def random_quest(rng, accumulators=3, asked=2):
+    """A random QUEST that is within."""
+    many = rng.randint(0, accumulators)
+    while True:
+        program = tuple(light_formula(rng, place) for place in range(many))
+        starts = tuple(rng.choice([(0, 1), (0, 1), random_worth(rng)]) for _ in range(many))
+        formulas = tuple(light_formula(rng, many, 2, True) for _ in range(rng.randint(0, asked)))
+        if plain_within((program, starts, formulas)):
+            return (program, starts, formulas)
 
 
 def rng_of(seed):
