@@ -118,6 +118,7 @@ def quest_of(terms):
     many = len(order)
     program = []
     for place, word in enumerate(order):
+        # Behind a single LETTER there is no accumulator: its own place is none before it.
         powers = unit_powers(places.get(word[1:], place), place)
         program.append(((powers, row_of_letter(word[0])),))
     asked = []

@@ -5,7 +5,7 @@ from math import comb
 from loopsbeside.errors import CanNot
 from loopsbeside.kinds import firm, is_number, is_table, is_tuple
 from loopsbeside.ratios import ONE, ZERO, add_to, is_above_zero, is_fraction, is_worth, minus, over
-from loopsbeside.ratios import pairs_of, reduced, sign_of, times, whole
+from loopsbeside.ratios import pairs_of, plus_pairs, reduced, scaled_pairs, sign_of, times, whole
 from loopsbeside.rows import minus_rows, moved, need_fit, row_from, row_worth
 
 
@@ -47,15 +47,12 @@ def letters_of_poles(row):
 
 def plus_letters(letters, other):
     """The LETTERS whose value is the sum of the values of both."""
-    table = {}
-    for letter, x in firm(letters) + firm(other):
-        add_to(table, letter, x)
-    return pairs_of(table)
+    return plus_pairs(letters, other)
 
 
 def scaled_letters(letters, x):
     """The LETTERS whose value is x times that of the LETTERS."""
-    return pairs_of({letter: times(worth, x) for letter, worth in firm(letters)})
+    return scaled_pairs(letters, x)
 
 
 def difference(row):
@@ -140,7 +137,7 @@ def multiple(letters, other):
 def going(rows):
     """The reduced list of mixes of the rows that go, from which all such mixes are made."""
     split_off = [dict(split(row)[1]) for row in rows]
-    order = sorted({letter for found in split_off for letter in found})
+    order = sorted({letter for one in split_off for letter in one})
     many = len(split_off)
     vectors = []
     for at, found in enumerate(split_off):

@@ -3,7 +3,7 @@
 from math import gcd, lcm
 
 from loopsbeside.errors import Unfit
-from loopsbeside.kinds import is_number, is_tuple
+from loopsbeside.kinds import firm, is_number, is_tuple
 
 ZERO = (0, 1)
 ONE = (1, 1)
@@ -112,6 +112,19 @@ def add_to(table, key, x):
 def pairs_of(table):
     """The pairs of a table as an ascending tuple, those with 0 left out."""
     return tuple([(key, table[key]) for key in sorted(table) if table[key][0] != 0])
+
+
+def plus_pairs(one, two):
+    """The sum of two ascending tuples of pairs (key, FRACTION), as such a tuple."""
+    table = {}
+    for key, x in firm(one) + firm(two):
+        add_to(table, key, x)
+    return pairs_of(table)
+
+
+def scaled_pairs(one, x):
+    """x times an ascending tuple of pairs (key, FRACTION), as such a tuple."""
+    return pairs_of({key: times(worth, x) for key, worth in firm(one)})
 
 
 def reduced(vectors):

@@ -188,7 +188,7 @@ def shifted(row, many):
 
 
 def moved(row, many):
-    """The same of many below 0, if the ROW has values there: a fit one for -1."""
+    """What shifted returns; many may also be -1 if the ROW is fit: then it has all values that are needed."""
     table = {}
     for base, place, power, worth in row:
         _add_loose(table, (base, plus(place, whole(many)), power, times(worth, power_of(base, many))))

@@ -5,7 +5,7 @@ A table of WORDS is a dict from WORDS to FRACTIONS, maybe 0.
 
 from loopsbeside.kinds import firm, is_table, is_tuple_of
 from loopsbeside.letters import is_letter, letters_of_poles, row_of_letter
-from loopsbeside.ratios import LESS_ONE, ONE, ZERO, add_to, is_worth, pairs_of, plus, times
+from loopsbeside.ratios import LESS_ONE, ONE, ZERO, add_to, is_worth, pairs_of, plus, plus_pairs, scaled_pairs, times
 from loopsbeside.rows import base_weight, row_worth, times_rows
 
 
@@ -78,15 +78,12 @@ def sum_at(one, n):
 
 def plus_sums(one, two):
     """The SUM whose value is the sum of both values."""
-    table = {}
-    for word, x in firm(one) + firm(two):
-        add_to(table, word, x)
-    return pairs_of(table)
+    return plus_pairs(one, two)
 
 
 def scaled_sum(one, x):
     """The SUM whose value is x times that of the SUM."""
-    return pairs_of({word: times(worth, x) for word, worth in firm(one)})
+    return scaled_pairs(one, x)
 
 
 def merged(letter, other):
