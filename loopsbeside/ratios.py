@@ -106,7 +106,8 @@ def ceiling_of(x):
 
 def add_to(table, key, x):
     """Adds the FRACTION x to what table has for this key."""
-    table[key] = plus(table[key], x) if key in table else x
+    old = table.get(key)
+    table[key] = x if old is None else plus(old, x)
 
 
 def pairs_of(table):
