@@ -132,7 +132,8 @@ def put_ahead(letters, one):
     table = {}
     for letter, x in firm(letters):
         for word, worth in one:
-            table[(letter, *word)] = times(x, worth)
+            longer = (letter, *word)
+            table[longer] = times(x, worth)
     return pairs_of(table)
 
 

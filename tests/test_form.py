@@ -121,6 +121,13 @@ class Form(unittest.TestCase):
                 if isinstance(node, ast.BinOp) and isinstance(node.op, ast.Pow):
                     self.assertIsInstance(node.right, ast.Constant, name)
 
+    def test_no_star_in_an_index(self):
+        for name, text in sources():
+            for node in ast.walk(ast.parse(text)):
+                if isinstance(node, ast.Subscript):
+                    stars = [inner.lineno for inner in ast.walk(node.slice) if isinstance(inner, ast.Starred)]
+                    self.assertEqual(stars, [], name)
+
     def test_sets_stand_in_calls_only(self):
         for name, text in sources():
             tree = ast.parse(text)
