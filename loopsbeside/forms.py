@@ -15,19 +15,24 @@ def forms(quest):
     """The list of the FORMS of the accumulators. Raises TooMuch()."""
     quest = firm(quest)
     need_within(quest)
-    return _accumulator_forms(quest, _new_products(quest))
+    return accumulator_forms(quest)
 
 
 def asked_forms(quest):
     """The list of the FORMS of the asked values. Raises TooMuch()."""
     quest = firm(quest)
     need_within(quest)
-    return _asked_forms(quest)
+    return asked_forms_of(quest)
 
 
 def _new_products(quest):
     """The products of FORMS found so far, by the powers: that of no FORM is 1."""
     return {(0,) * len(quest[0]): (((), ONE_ROW),)}
+
+
+def accumulator_forms(quest):
+    """The list of the FORMS of the accumulators, also if the QUEST is not within."""
+    return _accumulator_forms(quest, _new_products(quest))
 
 
 def _accumulator_forms(quest, kept):
@@ -50,8 +55,8 @@ def _add_rows(rows, pairs):
         add_row(rows, key, row)
 
 
-def _asked_forms(quest):
-    """The list of the FORMS of the asked values of a QUEST that is within."""
+def asked_forms_of(quest):
+    """The list of the FORMS of the asked values, also if the QUEST is not within."""
     kept = _new_products(quest)
     factors = _accumulator_forms(quest, kept)
     found = []
@@ -67,7 +72,7 @@ def _asked_forms(quest):
 def is_alike(quest, other):
     """Whether both have the same values at all n. Raises TooMuch() or Unfit()."""
     quest, other = _comparable(quest, other)
-    return _asked_forms(quest) == _asked_forms(other)
+    return asked_forms_of(quest) == asked_forms_of(other)
 
 
 def _comparable(quest, other):
@@ -84,7 +89,7 @@ def _comparable(quest, other):
 def parting(quest, other):
     """The least n at which their values differ, or None. Raises TooMuch() or Unfit()."""
     quest, other = _comparable(quest, other)
-    if _asked_forms(quest) == _asked_forms(other):
+    if asked_forms_of(quest) == asked_forms_of(other):
         return None
     # Different FORMS have different values at some n, so the search ends.
     state = quest[1]

@@ -1,9 +1,9 @@
 """FORMULAS: sums of products of accumulators times ROWS."""
 
 from loopsbeside.kinds import firm, is_number, is_table, is_tuple, power_product
-from loopsbeside.ratios import ZERO, plus, power_of, times
-from loopsbeside.rows import ONE_ROW, add_row, each_times, is_fit, is_some_row, need_fit
-from loopsbeside.rows import plus_keyed, row_worth, rows_of, times_rows
+from loopsbeside.ratios import LESS_ONE, ZERO, plus, power_of, times
+from loopsbeside.rows import ONE_ROW, add_row, each_times, is_fit, is_some_row, moved, need_fit
+from loopsbeside.rows import plus_keyed, row_worth, rows_of, scaled, times_rows
 
 
 def is_formula(thing, many):
@@ -85,19 +85,59 @@ def padded(powers, many):
 
 
 def placed(formula, places, many):
-    """The FORMULA of many accumulators in which the one at places[k] stands for the one at k."""
+    """The FORMULA of many accumulators in which the one at places[k] stands for the one at k; places may be equal."""
     rows = {}
     for powers, row in formula:
         own = [0] * many
         for place, power in zip(places, powers):
-            own[place] = power
+            own[place] += power
         add_row(rows, tuple(own), row)
     return rows_of(rows)
+
+
+def narrowed(formula, places):
+    """The FORMULA as one of the accumulators at these places alone, in their order; it names no others.
+
+    The places ascend, so the pairs stay in order.
+    """
+    return tuple([(tuple([powers[place] for place in places]), row) for powers, row in formula])
+
+
+def accumulator(place, many):
+    """The FORMULA of many accumulators that is the value of the one at this place."""
+    return ((unit_powers(place, many), ONE_ROW),)
+
+
+def fixed_formula(x, many):
+    """The FORMULA of many accumulators that is the FRACTION x."""
+    if x[0] == 0:
+        return ()
+    return (((0,) * many, scaled(ONE_ROW, x)),)
+
+
+def counted(places, order):
+    """The powers of a product of the accumulators at these places, for accumulators at the places of the order."""
+    return tuple([places.count(place) for place in order])
 
 
 def unit_powers(place, many):
     """The powers of many accumulators that are 1 at this place alone."""
     return tuple([1 if at == place else 0 for at in range(many)])
+
+
+def minus_formulas(one, two):
+    """The FORMULA whose value is that of one less that of two."""
+    return plus_formulas(one, times_fixed(two, LESS_ONE))
+
+
+def times_fixed(formula, x):
+    """The FORMULA whose value is x times that of the FORMULA."""
+    return scaled_formula(formula, scaled(ONE_ROW, x))
+
+
+def before_formula(formula):
+    """The FORMULA with fit ROWS as it is in the round before: each ROW has the value of the old one at i - 1."""
+    return tuple([(powers, moved(row, -1)) for powers, row in formula])
 
 
 def put_in(formula, formulas, many):

@@ -48,7 +48,7 @@ def nest_loops(nest):
 def nest_run(nest, rounds):
     """The tuple of the cells of the NEST after so many rounds. Raises TooMuch()."""
     nest = firm(nest)
-    need_within(_measured_quest(nest, ()))
+    need_within(measured_quest(nest, ()))
     return _states(nest, rounds)[rounds]
 
 
@@ -56,11 +56,11 @@ def nest_values(nest, asked, n):
     """The tuple of the values of the FORMULAS asked at n. Raises TooMuch()."""
     nest = firm(nest)
     asked = firm(asked)
-    need_within(_measured_quest(nest, asked))
+    need_within(measured_quest(nest, asked))
     return asked_worths(asked, _states(nest, n)[n], n)
 
 
-def _measured_quest(nest, asked):
+def measured_quest(nest, asked):
     """A QUEST with an accumulator as long and as heavy as each cell at any depth, and the same poles.
 
     Whatever is late, the accumulator of an inner cell stands for this cell.

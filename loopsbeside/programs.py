@@ -1,11 +1,11 @@
 """PROGRAMS, their STARTS, and QUESTS: what they are, how they run, how great they are."""
 
 from loopsbeside.errors import NoPlace, TooMuch
-from loopsbeside.formulas import formula_worth, is_fit_formula, is_formula, more_formula, named, plus_formulas
-from loopsbeside.formulas import put_in, unit_powers
+from loopsbeside.formulas import accumulator, formula_worth, is_fit_formula, is_formula, more_formula, named
+from loopsbeside.formulas import plus_formulas, put_in, unit_powers
 from loopsbeside.kinds import firm, is_tuple, is_tuple_of
 from loopsbeside.ratios import ceiling_of, is_fraction, minus, plus, whole
-from loopsbeside.rows import ONE_ROW, row_weight
+from loopsbeside.rows import row_weight
 
 MOST_LENGTH = 6
 MOST_WEIGHT = 4
@@ -107,15 +107,15 @@ def weights(program):
 
 def formula_length(formula, known):
     """The length of a FORMULA asked, given those of the accumulators."""
-    return max([_power_sum(powers, known) for powers, _ in formula], default=0)
+    return max([power_sum(powers, known) for powers, _ in formula], default=0)
 
 
 def formula_weight(formula, known):
     """The weight of a FORMULA, given those of the accumulators."""
-    return max([row_weight(row) + _power_sum(powers, known) for powers, row in formula], default=0)
+    return max([row_weight(row) + power_sum(powers, known) for powers, row in formula], default=0)
 
 
-def _power_sum(powers, known):
+def power_sum(powers, known):
     """The sum of the powers times what is known of their accumulators."""
     return sum([power * size for power, size in zip(powers, known)])
 
@@ -164,7 +164,12 @@ def needed(quest):
     """The least set of places that the FORMULAS asked, and the STEPS at these places, name. Raises TooMuch()."""
     program, starts, asked = firm(quest)
     need_within((program, starts, asked))
-    needs = {place: True for formula in asked for place in named(formula)}
+    return needed_for(program, {place: True for formula in asked for place in named(formula)})
+
+
+def needed_for(program, places):
+    """The set of these places, the keys of a dict, and of all that the STEPS at such places name."""
+    needs = {place: True for place in places}
     # A STEP names only places before its own.
     for place in range(len(program) - 1, -1, -1):
         if place in needs:
@@ -177,9 +182,10 @@ def after_round(formula, program):
     """The FORMULA that gives, from before a round, the value of the FORMULA after it. Raises TooMuch()."""
     program = firm(program)
     need_within((program, (), (formula,)))
+    return put_in(formula, grown_accumulators(program), len(program))
+
+
+def grown_accumulators(program):
+    """The list of the FORMULAS that give each accumulator after a round from those before it."""
     many = len(program)
-    grown = []
-    for place, step in enumerate(program):
-        own = ((unit_powers(place, many), ONE_ROW),)
-        grown.append(plus_formulas(own, more_formula(step, many)))
-    return put_in(formula, grown, many)
+    return [plus_formulas(accumulator(place, many), more_formula(step, many)) for place, step in enumerate(program)]

@@ -21,10 +21,15 @@ def is_row(thing):
 
 def _is_part(thing):
     """Whether thing is a PART."""
-    if not is_tuple(thing, 4):
+    return is_tuple(thing, 4) and is_triple(thing[:3]) and is_worth(thing[3])
+
+
+def is_triple(thing):
+    """Whether thing is a triple (base, place, power) that a PART can have."""
+    if not is_tuple(thing, 3):
         return False
-    base, place, power, worth = thing
-    if not (is_above_zero(base) and is_fraction(place) and is_number(power) and is_worth(worth)):
+    base, place, power = thing
+    if not (is_above_zero(base) and is_fraction(place) and is_number(power)):
         return False
     if power >= 0:
         return place == ZERO

@@ -7,6 +7,8 @@ from loopsbeside.rows import add_row, each_times, is_some_fit_row, is_some_row, 
 from loopsbeside.rows import row_from, row_worth, rows_of, scaled, shifted, times_rows
 from loopsbeside.words import is_word, word_product, word_worths
 
+FIXED_TRIPLE = ((1, 1), (0, 1), 0)
+
 
 def is_term(thing):
     """Whether thing is a TERM."""
@@ -167,6 +169,6 @@ def fixed_worth(one):
     one = firm(one)
     if one == ():
         return ZERO
-    if len(one) == 1 and one[0][0] == () and triples_of(one) == ((ONE, ZERO, 0),):
+    if len(one) == 1 and one[0][0] == () and triples_of(one) == (FIXED_TRIPLE,):
         return one[0][1][0][3]
     return None

@@ -19,6 +19,11 @@ def is_sum(thing):
     return is_table(thing, is_word, is_worth)
 
 
+def words_table(one):
+    """The SUM as a table of WORDS."""
+    return {word: x for word, x in one}
+
+
 def word_weight(word):
     """The weight of the WORD."""
     return sum([base_weight(base) + size for base, _, size in word])
@@ -93,17 +98,29 @@ def merged(letter, other):
 
 def times_sums(one, two):
     """The SUM whose value is the product of both values."""
+    return sums_laid_together(firm(one), firm(two), merged)
+
+
+def sums_laid_together(one, two, meet):
+    """The SUM of what laid_together makes of the WORDS of two SUMS, times the FRACTIONS of both."""
     table = {}
     kept = {}
-    others = firm(two)
-    for word, x in firm(one):
-        for other, y in others:
-            _add_words(table, (), word_product(word, other, kept), times(x, y))
+    for word, x in one:
+        for other, y in two:
+            add_words(table, (), laid_together(word, other, meet, kept), times(x, y))
     return pairs_of(table)
 
 
 def word_product(one, two, kept):
     """The product of two WORDS as a table of WORDS; kept is a dict of the products found so far."""
+    return laid_together(one, two, merged, kept)
+
+
+def laid_together(one, two, meet, kept):
+    """The table of all WORDS laid together from two, in which first LETTERS that meet become the LETTERS meet tells.
+
+    kept is a dict of the tables found so far.
+    """
     if one == () or two == ():
         return {one + two: ONE}
     if two < one:
@@ -111,16 +128,15 @@ def word_product(one, two, kept):
     if (one, two) not in kept:
         # The greater of the two outer numbers belongs to one, to two, or to both.
         table = {}
-        _add_words(table, one[:1], word_product(one[1:], two, kept), ONE)
-        _add_words(table, two[:1], word_product(one, two[1:], kept), ONE)
-        both = word_product(one[1:], two[1:], kept)
-        for letter, x in merged(one[0], two[0]):
-            _add_words(table, (letter,), both, x)
+        add_words(table, one[:1], laid_together(one[1:], two, meet, kept), ONE)
+        add_words(table, two[:1], laid_together(one, two[1:], meet, kept), ONE)
+        for letter, x in meet(one[0], two[0]):
+            add_words(table, (letter,), laid_together(one[1:], two[1:], meet, kept), x)
         kept[(one, two)] = table
     return kept[(one, two)]
 
 
-def _add_words(table, ahead, words, x):
+def add_words(table, ahead, words, x):
     """Adds x times a table of WORDS to another one, each WORD with ahead put before it."""
     for word, worth in words.items():
         add_to(table, ahead + word, times(worth, x))
@@ -170,10 +186,10 @@ def _loosened(words):
     first = _by_outer(words)
     while first:
         for letter, rests in first.items():
-            _add_words(together.setdefault(letter, {}), (), rests, ONE)
+            add_words(together.setdefault(letter, {}), (), rests, ONE)
         first = _fallen(first)
     for letter, rests in together.items():
-        _add_words(result, (letter,), _loosened(rests), ONE)
+        add_words(result, (letter,), _loosened(rests), ONE)
     return result
 
 
@@ -193,5 +209,5 @@ def _fallen(first):
     for letter, words in first.items():
         for other, rests in _by_outer(words).items():
             for both, x in merged(letter, other):
-                _add_words(result.setdefault(both, {}), (), rests, x)
+                add_words(result.setdefault(both, {}), (), rests, x)
     return result

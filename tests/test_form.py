@@ -108,6 +108,9 @@ class Form(unittest.TestCase):
                         self.assertIn(node.id, BUILTINS, name)
 
     def test_expressions(self):
+        stored = [node.attr for _, text in sources() for node in ast.walk(ast.parse(text))
+                  if isinstance(node, ast.Attribute) and isinstance(node.ctx, ast.Store)]
+        self.assertEqual([name for name in stored if name in METHODS], [])
         for name, text in sources():
             tree = ast.parse(text)
             for node in ast.walk(tree):
@@ -115,7 +118,7 @@ class Form(unittest.TestCase):
                 if isinstance(node, ast.Constant):
                     self.assertNotIsInstance(node.value, (float, complex, bytes), name)
                 if isinstance(node, ast.Attribute):
-                    self.assertTrue(node.attr in METHODS or isinstance(node.ctx, ast.Store), (name, node.attr))
+                    self.assertTrue(node.attr in METHODS or node.attr in stored, (name, node.attr))
                 if isinstance(node, ast.Compare) and isinstance(node.ops[0], (ast.Is, ast.IsNot)):
                     self.assertIn(node.comparators[0].value, [None, True, False], name)
                 if isinstance(node, ast.BinOp) and isinstance(node.op, ast.Pow):
