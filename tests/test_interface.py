@@ -33,6 +33,25 @@ INTERFACE = {
              "is_row_only(quest, which), words_of(quest), quest_of(terms)",
     "nests": "is_nest(thing), nest_depth(nest), nest_loops(nest), nest_run(nest, rounds), "
              "nest_values(nest, asked, n), nest_rounds(nest, rounds), rounds_row(nest)",
+    "flat": "flat(nest, asked), nest_of(quest, late=False)",
+    "leastnest": "least_nest(quest, late=False)",
+    "blocks": "is_blocks(thing), turns(blocks), is_blocks_within(blocks, many), blocks_of(quest), "
+              "blocks_run(blocks, rounds), blocks_values(blocks, n), factored(blocks), "
+              "unrolled(blocks, many, rest), blocks_alike(blocks, other)",
+    "free": "rid(one), unrid(one), shuffled(one, two)",
+    "brackets": "is_lyndon(word), lyndon_words(lot), is_bracket(thing), bracket_word(bracket), opened(bracket), "
+                "depth(bracket), standard(word), normal(bracket), reading(bracket, one)",
+    "lines": "is_line(quest, thing), line_sum(quest, line), lines(quest), lots(quest)",
+    "table": "columns(quest), table(quest), rank(quest), unread(quest), square(quest), is_square(quest, thing), "
+             "determinant(rows)",
+    "levels": "reads_out(quest, line, bracket), least_level(quest), against(quest), "
+              "is_against(quest, thing, level), beside(row, other)",
+    "shallow": "shallow(quest), tower(quest), least_level_among_fewest(quest)",
+    "fewest": "fewest(quest), is_fewest_program(quest), few(quest), carries(quest, other), both(quest, other), "
+              "spare(quest), same_ring(quest, other)",
+    "newones": "step_of(program, formula), split_step(program, step, starts=None), "
+               "formula_for(program, step, starts=None), is_new(program, step, starts=None), "
+               "all_formulas(program, starts=None), new_places(program, starts=None), dropped(quest)",
 }
 
 
