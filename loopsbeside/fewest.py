@@ -77,7 +77,8 @@ def _heads(ring, weight):
         products = products_of_weight(ring, weight, 0)
         tops = [{word: x for word, x in _product(ring, places) if word_weight(word) == weight} for places in products]
         # Long WORDS are taken off rather than short ones.
-        words = sorted({word for top in tops for word in top}, key=lambda word: (-len(word), word))
+        every = {word: True for top in tops for word in top}
+        words = sorted(every, key=lambda word: (-len(word), word))
         rows = []
         for at, top in enumerate(tops):
             own = [ONE if place == at else ZERO for place in range(len(products))]
@@ -168,7 +169,8 @@ def few(quest):
     """A QUEST alike with the fewest accumulators. Raises TooMuch()."""
     terms = asked_forms(quest)
     ring = Ring(0)
-    for one in sorted({one for _, one in coming(terms)}, key=lambda one: (sum_weight(one), one)):
+    every = {one: True for _, one in coming(terms)}
+    for one in sorted(every, key=lambda one: (sum_weight(one), one)):
         take_in(ring, one, ())
     order = list(range(len(ring.sums)))
     program = []

@@ -135,7 +135,7 @@ class Form(unittest.TestCase):
         for name, text in sources():
             tree = ast.parse(text)
             held = [id(node.args[0]) for node in ast.walk(tree) if isinstance(node, ast.Call) and node.args
-                    and isinstance(node.func, ast.Name) and node.func.id in ("sorted", "len")]
+                    and isinstance(node.func, ast.Name) and node.func.id in ("sorted", "len") and not node.keywords]
             for node in ast.walk(tree):
                 if isinstance(node, (ast.SetComp, ast.Set)):
                     self.assertIn(id(node), held, name)
