@@ -6,7 +6,7 @@ from loopsbeside.errors import Unfit
 from loopsbeside.free import rid
 from loopsbeside.kinds import firm, is_tuple
 from loopsbeside.letters import is_letter
-from loopsbeside.ratios import LESS_ONE, ONE, ZERO, minus, pairs_of, plus, times
+from loopsbeside.ratios import LESS_ONE, ONE, ZERO, pairs_of, plus, take_off, times
 from loopsbeside.words import add_words, longest, words_table
 
 
@@ -102,11 +102,7 @@ def normal(bracket):
         word = min(left)
         x = left[word]
         found[word] = x
-        for other, y in opened_table(standard_bracket(word)).items():
-            rest = minus(left.get(other, ZERO), times(x, y))
-            left[other] = rest
-            if rest[0] == 0:
-                del left[other]
+        take_off(left, x, opened_table(standard_bracket(word)))
     return pairs_of(found)
 
 

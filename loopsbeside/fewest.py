@@ -7,11 +7,11 @@ from loopsbeside.formulas import counted, fixed_formula, minus_formulas, plus_fo
 from loopsbeside.forms import asked_forms, forms
 from loopsbeside.letters import row_of_letter
 from loopsbeside.lines import coming
-from loopsbeside.ratios import LESS_ONE, ONE, ZERO, add_to, pairs_of, reduced, times
+from loopsbeside.ratios import LESS_ONE, ONE, ZERO, over, pairs_of, scaled_table, take_off
 from loopsbeside.rows import add_row, rows_of
 from loopsbeside.table import rank, rank_of
 from loopsbeside.terms import part_sum, triples_of
-from loopsbeside.words import add_words, outer_letters, taken_off, times_sums, word_weight, words_table
+from loopsbeside.words import outer_letters, taken_off, times_sums, word_weight, words_table
 
 
 class Ring:
@@ -28,7 +28,8 @@ class Ring:
         self.weights = []
         self.products = {}
         self.marked = {}
-        self.heads = {}
+        self.heads = {0: [((), {(): ONE}, {(): ONE})]}
+        self.done = {}
 
 
 def sum_weight(one):
@@ -56,61 +57,69 @@ def marked_product(ring, places):
     return ring.marked[places]
 
 
-def products_of_weight(ring, weight, first):
-    """The list of the products of this weight of kept SUMS, none before the place first."""
+def products_of_weight(ring, weight, many):
+    """The list of the products of this weight of the first many kept SUMS."""
     if weight == 0:
         return [()]
     found = []
-    for place in range(first, len(ring.sums)):
-        if ring.weights[place] <= weight:
-            rests = products_of_weight(ring, weight - ring.weights[place], place)
-            found.extend([(place, *rest) for rest in rests])
+    for place in range(many):
+        found.extend(_products_up_to(ring, weight, place))
     return found
 
 
+def _products_up_to(ring, weight, place):
+    """The list of the products of this weight whose last SUM is the one at this place."""
+    if ring.weights[place] > weight:
+        return []
+    rests = products_of_weight(ring, weight - ring.weights[place], place + 1)
+    return [(*rest, place) for rest in rests]
+
+
 def _heads(ring, weight):
-    """The list of the triples (WORD, mix of products, its table of WORDS) for the sums of products of this weight.
+    """The list of the triples (WORD, table of a mix of products, its table of WORDS) for the mixes of this weight.
 
-    Each mix has its WORD once, and no WORD of the others of this weight.
+    Each mix has its WORD once, which is the first of those of this weight that it has
+    in the order of the list; mixes of what they are together have one of these first.
     """
-    if weight not in ring.heads:
-        products = products_of_weight(ring, weight, 0)
-        tops = [{word: x for word, x in _product(ring, places) if word_weight(word) == weight} for places in products]
-        # Long WORDS are taken off rather than short ones.
-        every = {word: True for top in tops for word in top}
-        words = sorted(every, key=lambda word: (-len(word), word))
-        rows = []
-        for at, top in enumerate(tops):
-            own = [ONE if place == at else ZERO for place in range(len(products))]
-            rows.append([top.get(word, ZERO) for word in words] + own)
-        ring.heads[weight] = [_head(ring, row, words, products) for row in reduced(rows)]
-    return ring.heads[weight]
+    heads = ring.heads.setdefault(weight, [])
+    for place in range(ring.done.get(weight, 0), len(ring.sums)):
+        for places in _products_up_to(ring, weight, place):
+            mix = {places: ONE}
+            table = words_table(_product(ring, places))
+            _clear(mix, table, heads)
+            word = min([_rank_of_word(word) for word in table if word_weight(word) == weight])[1]
+            x = over(ONE, table[word])
+            heads.append((word, scaled_table(mix, x), scaled_table(table, x)))
+            heads = sorted(heads, key=lambda head: _rank_of_word(head[0]))
+    ring.heads[weight] = heads
+    ring.done[weight] = len(ring.sums)
+    return heads
 
 
-def _head(ring, row, words, products):
-    """The triple of _heads of a row with its FRACTIONS for the WORDS, then for the products."""
-    mix = {places: x for places, x in zip(products, row[len(words):]) if x[0] != 0}
-    table = {}
-    for places, x in mix.items():
-        add_words(table, (), words_table(_product(ring, places)), x)
-    return (words[row.index(ONE)], mix, table)
+def _rank_of_word(word):
+    """What WORDS are ordered by where some are to be taken off: long ones first."""
+    return (-len(word), word)
+
+
+def _clear(mix, table, heads):
+    """Takes multiples of the heads off a mix and its table of WORDS, so that the table has no WORD of a head."""
+    for word, other_mix, other in heads:
+        if word in table:
+            x = table[word]
+            take_off(table, x, other)
+            take_off(mix, x, other_mix)
 
 
 def without_products(ring, one):
-    """The pair (mix, SUM): one is the mix of products and the SUM, which has no head of a sum of products.
+    """The pair (mix, SUM): one is the mix of products and the SUM, which has no WORD of a head.
 
     The SUM is () if one is a mix of products; the SUM of a sum is the sum of the SUMS.
     """
     left = words_table(one)
-    found = {}
+    less = {}
     for weight in range(sum_weight(one), -1, -1):
-        for word, mix, table in _heads(ring, weight):
-            x = left.get(word, ZERO)
-            if x[0] != 0:
-                add_words(left, (), table, times(x, LESS_ONE))
-                for places, y in mix.items():
-                    add_to(found, places, times(x, y))
-    return (found, pairs_of(left))
+        _clear(less, left, _heads(ring, weight))
+    return (scaled_table(less, LESS_ONE), pairs_of(left))
 
 
 def mark_of(ring, mix):
@@ -148,10 +157,11 @@ def _heavier_out(ring, weight):
     ring.sums = ring.sums[:many]
     ring.marks = ring.marks[:many]
     ring.weights = ring.weights[:many]
-    ring.heads = {own: ring.heads[own] for own in ring.heads if own < weight}
     if out:
         ring.products = {}
         ring.marked = {}
+        ring.heads = {own: ring.heads[own] for own in ring.heads if own <= weight}
+        ring.done = {own: min(ring.done[own], many) for own in ring.done if own <= weight}
     return out
 
 

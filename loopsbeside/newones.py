@@ -5,11 +5,11 @@ from loopsbeside.formulas import accumulator, before_formula, minus_formulas, na
 from loopsbeside.formulas import scaled_formula
 from loopsbeside.forms import accumulator_forms
 from loopsbeside.kinds import firm
-from loopsbeside.letters import letters_of_poles, row_of_letter, row_of_letters, split
-from loopsbeside.programs import MOST_LENGTH, MOST_WEIGHT, formula_length, grown_accumulators, lengths, need_within
-from loopsbeside.programs import power_sum, weights
-from loopsbeside.ratios import LESS_ONE, ONE, ZERO, minus, reduced, times
-from loopsbeside.rows import ONE_ROW, add_row, row_from, rows_of, scaled
+from loopsbeside.letters import row_of_letter, split
+from loopsbeside.programs import MOST_LENGTH, MOST_WEIGHT, grown_accumulators, lengths, need_within, power_sum
+from loopsbeside.programs import weights
+from loopsbeside.ratios import LESS_ONE, ONE, ZERO, over, scaled_table, take_off, times
+from loopsbeside.rows import ONE_ROW, add_row, rows_of, scaled
 from loopsbeside.terms import FIXED_TRIPLE, part_sum, plus_terms, scaled_term, triples_of
 from loopsbeside.words import word_weight
 
@@ -102,22 +102,18 @@ def _rest_of(found, step):
     products with FRACTIONS alone. Within, only those in products of a weight that
     a PROGRAM may have can be met.
     """
-    steps = _steps_of_new(found)
+    own_steps = OwnSteps(_steps_of_new(found))
     ring = found.ring
-    products = [places for own in range(1, MOST_WEIGHT + 1) for places in products_of_weight(ring, own, 0)]
+    products = [places for own in range(1, MOST_WEIGHT + 1)
+                for places in products_of_weight(ring, own, len(ring.sums))]
     told = sorted({powers for places in products for powers, _ in marked_product(ring, places) if any(powers)})
-    gains = [_letter_table(_summed_by_parts(steps, _gain(steps, powers))) for powers in told]
-    own = _letter_table(_summed_by_parts(steps, put_in(step, found.before, len(steps))))
+    gains = [_summed_by_parts(own_steps, _gain(own_steps, powers)) for powers in told]
+    own = _summed_by_parts(own_steps, put_in(step, found.before, len(found.before)))
     return _formula_of_letters(_without(own, gains, _bulk_order(found.program, [own] + gains)))
 
 
-def _letter_table(formula):
-    """The FORMULA, whose PARTS are all LETTERS, as a dict from pairs (powers, LETTER) to FRACTIONS."""
-    return {(powers, letter): x for powers, row in formula for letter, x in letters_of_poles(row)}
-
-
 def _formula_of_letters(table):
-    """The FORMULA of such a dict."""
+    """The FORMULA of a dict from pairs (powers, LETTER) to FRACTIONS."""
     rows = {}
     for key, x in table.items():
         add_row(rows, key[0], row_of_letter(key[1]), x)
@@ -141,39 +137,70 @@ def _bulk_order(program, tables):
 
 def _without(own, others, order):
     """The table own less what the others have together, as far as it can be taken out of the first of the order."""
-    rows = reduced([[other.get(key, ZERO) for key in order] for other in others])
-    left = [own.get(key, ZERO) for key in order]
-    for row in rows:
-        x = left[row.index(ONE)]
-        if x[0] != 0:
-            left = [minus(y, times(x, z)) for y, z in zip(left, row)]
-    return {key: x for key, x in zip(order, left) if x[0] != 0}
+    ranks = {key: at for at, key in enumerate(order)}
+    heads = []
+    for other in others:
+        left = _cleared(other, heads)
+        if left:
+            first = min(left, key=lambda key: ranks[key])
+            heads.append((ranks[first], first, scaled_table(left, over(ONE, left[first]))))
+            heads = sorted(heads, key=lambda head: head[0])
+    return _cleared(own, heads)
 
 
-def _gain(steps, powers):
+def _cleared(table, heads):
+    """The table less multiples of the heads, so that it has no key of a head."""
+    left = scaled_table(table, ONE)
+    for _, key, other in heads:
+        if key in left:
+            take_off(left, left[key], other)
+    return left
+
+
+class OwnSteps:
+    """The STEPS of new accumulators, and what is found of products of them: their gains in a round, their rests."""
+
+    def __init__(self, steps):
+        self.grown = grown_accumulators(steps)
+        self.gains = {}
+        self.rests = {}
+
+
+def _gain(own_steps, powers):
     """The FORMULA of what the product of the accumulators to these powers gains in a round."""
-    product = ((powers, ONE_ROW),)
-    return minus_formulas(put_in(product, grown_accumulators(steps), len(steps)), product)
+    if powers not in own_steps.gains:
+        product = ((powers, ONE_ROW),)
+        after = put_in(product, own_steps.grown, len(powers))
+        own_steps.gains[powers] = minus_formulas(after, product)
+    return own_steps.gains[powers]
 
 
-def _summed_by_parts(steps, step):
-    """The step, a FORMULA of new accumulators, less what it has of differences of FORMULAS with fit ROWS.
+def _summed_by_parts(own_steps, step):
+    """What is left of the step, a FORMULA of new accumulators, without differences of FORMULAS with fit ROWS.
 
-    Each ROW is split: what is the difference of a fit ROW is left out, less that
-    ROW times what the accumulators gain. This has shorter products only.
+    It has LETTERS alone, and is a dict from pairs (powers, LETTER) to FRACTIONS.
     """
-    sizes = lengths(steps)
-    left = {}
-    rest = {}
+    table = {}
     for powers, row in step:
-        add_row(left, powers, row)
-    for size in range(formula_length(step, sizes), -1, -1):
-        for powers in [own for own in left if power_sum(own, sizes) == size]:
-            kept, letters = split(row_from(left[powers]))
-            add_row(rest, powers, row_of_letters(letters))
-            for other, row in scaled_formula(_gain(steps, powers), kept):
-                add_row(left, other, row, LESS_ONE)
-    return rows_of(rest)
+        for part in row:
+            take_off(table, times(part[3], LESS_ONE), _part_by_parts(own_steps, powers, part[:3]))
+    return table
+
+
+def _part_by_parts(own_steps, powers, triple):
+    """What is left of a product of accumulators times the ROW of one PART with this triple and worth 1.
+
+    The ROW is split: what is the difference of a fit ROW is left out, less that ROW
+    times what the product gains in a round, which has shorter products only.
+    """
+    if (powers, triple) not in own_steps.rests:
+        kept, letters = split(((*triple, ONE),))
+        table = {(powers, letter): x for letter, x in letters}
+        for other, row in scaled_formula(_gain(own_steps, powers), kept):
+            for part in row:
+                take_off(table, part[3], _part_by_parts(own_steps, other, part[:3]))
+        own_steps.rests[(powers, triple)] = table
+    return own_steps.rests[(powers, triple)]
 
 
 def _steps_of_new(found):

@@ -110,6 +110,21 @@ def add_to(table, key, x):
     table[key] = x if old is None else plus(old, x)
 
 
+def take_off(table, x, other):
+    """Takes x times the other table off a table; neither has a 0, and none is left."""
+    for key, y in other.items():
+        rest = minus(table.get(key, ZERO), times(x, y))
+        if rest[0] != 0:
+            table[key] = rest
+        elif key in table:
+            del table[key]
+
+
+def scaled_table(table, x):
+    """The table with x times what this one has; x is not 0."""
+    return {key: times(y, x) for key, y in table.items()}
+
+
 def pairs_of(table):
     """The pairs of a table as an ascending tuple, those with 0 left out."""
     return tuple([(key, table[key]) for key in sorted(table) if table[key][0] != 0])

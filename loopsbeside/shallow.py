@@ -10,7 +10,7 @@ from loopsbeside.formulas import counted
 from loopsbeside.levels import least_level_of, lot_pairs
 from loopsbeside.letters import row_of_letter
 from loopsbeside.lines import freed_lines, lot_of
-from loopsbeside.ratios import LESS_ONE, ONE, ZERO, combination, reduced, times
+from loopsbeside.ratios import ONE, ZERO, combination, reduced, take_off
 from loopsbeside.rows import add_row, rows_of
 from loopsbeside.table import columns_of, head_places, table_of, turned_rows, unread_by
 from loopsbeside.terms import part_sum, triples_of
@@ -94,14 +94,15 @@ def _expressed(loops, one):
     found = {}
     for size in range(max([len(word) for word in left], default=0), 0, -1):
         # What is taken off for a lot has no other WORDS that are as long.
-        for lot in sorted({lot_of(word) for word in left if len(word) == size and left[word][0] != 0}):
+        lots = sorted({lot_of(word) for word in left if len(word) == size})
+        for lot in lots:
             products, words, vectors = _candidates(loops, lot)
             goal = [left.get(word, ZERO) for word in words]
             for places, x in zip(products, combination(vectors, goal)):
                 if x[0] != 0:
                     found[places] = x
-                    add_words(left, (), words_table(_product(loops, places)), times(x, LESS_ONE))
-    if left.get((), ZERO)[0] != 0:
+                    take_off(left, x, words_table(_product(loops, places)))
+    if () in left:
         found[()] = left[()]
     return found
 
