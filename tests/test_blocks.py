@@ -8,8 +8,8 @@ from loopsbeside.programs import is_quest, quest_level
 from loopsbeside.table import rank
 from tests.helper import (Case, formula_value, light_formula, pair, plain_base_weight, plain_poles, plain_values,
                           plain_within, random_worth, ratio, rng_of)
-from tests.quests import (NAMED, NONE, NOT_WITHIN, NOTHING_ASKED, ODD, ONE, OVER_I, PAIR, TWO, UNIT, ZERO, asks,
-                          own_value, plain_chain, rich_quest)
+from tests.quests import (NAMED, NONE, NOT_WITHIN, NOTHING_ASKED, ONE, OVER_I, PAIR, TWO, UNIT, ZERO, asks,
+                          plain_chain, rich_quest)
 
 LESS = ((ONE, ZERO, -1, (-1, 1)),)
 LESS_ONE = ((ONE, ZERO, 0, (-1, 1)),)
@@ -298,8 +298,10 @@ class Blocks(Case):
         self.assertEqual(len(blocks_values(one, 60)), 1)
         self.assertEqual(Fraction(*blocks_values(one, 1)[0]), Fraction(*plain_blocks_values(one, 1)[0]))
 
-    def test_not_changed_by_order(self):
-        self.assertEqual(unrolled(LATER, 1, 0), unrolled(LATER, 1, 0))
-        self.assertEqual(plain_values(unrolled(LATER, 1, 0), 3), blocks_values(SIGNS, 3))
-        self.assertEqual(own_value(0, 1), FIRST)
-        self.assertIs(is_blocks_within((1, (ONE,), (ZERO,), ((((((), ODD),),),)), (), ()), 1), True)
+    def test_without_asked(self):
+        for one in (SIGNS[:5] + ((),), COUNTS[:5] + ((),)):
+            many = turns(one)
+            quest = unrolled(one, many, many - 1)
+            self.assertEqual(quest[2], ())
+            self.assertEqual(blocks_values(one, 3), ())
+            self.assertIs(blocks_alike(one, EMPTY), True)

@@ -127,7 +127,8 @@ class Fewest(Case):
             self.assertEqual(formula_value(formula, state, n), state[2])
         self.assertEqual(fewest(asks(program, 2)), 1)
         self.assertEqual(fewest(asks(program, 0, 1, 2)), 2)
-        quest = (plain_two(), (ZERO, ZERO), ((((0, 1), LINE), ((1, 0), UNIT)),))
+        program = ((((), OVER_SQUARE),), (((0,), OVER_I), ((1,), ODD)))
+        quest = (program, (ZERO, ZERO), ((((0, 1), LINE), ((1, 0), UNIT)),))
         self.assertEqual(fewest(quest), 2)
         self.assertEqual(pair(formula_value(quest[2][0], plain_run(*quest[:2], 2)[2], 2)), values_at(few(quest), 2)[0])
 
@@ -144,6 +145,3 @@ def asks_all(quest):
     many = len(quest[0])
     return (quest[0], quest[1], tuple(own_value(place, many) for place in range(many)))
 
-
-def plain_two():
-    return ((((), OVER_SQUARE),), (((0,), OVER_I + ()), ((1,), ODD)))

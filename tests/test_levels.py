@@ -9,7 +9,7 @@ from loopsbeside.lines import is_line, line_sum, lines, lots
 from loopsbeside.programs import is_quest, needed, quest_level, values_at
 from loopsbeside.shallow import least_level_among_fewest, shallow, tower
 from loopsbeside.table import rank
-from tests.helper import Case, plain_values, plain_within, ratio, rng_of
+from tests.helper import Case, as_lists, plain_values, plain_within, ratio, rng_of
 from tests.quests import (BASES, DEEP, H, MIXED, NAMED, NONE, NOT_WITHIN, NOTHING_ASKED, O, ODD, ONE, OVER_I,
                           OVER_SQUARE, PAIR, Q, ROWS_ONLY, SAME, SQUARES, STARTED, SUM_OF_TWO, THIRD, THREE, TOP, TWO,
                           UNIT, ZERO, asks, plain_chain, rich_quest, rich_row)
@@ -190,6 +190,11 @@ class Levels(Case):
                ((1, TOP, ()), (O, H)), ((0, TOP, (Q,)), (O, H)), ((0, TOP, (Q, Q, Q)), (O, H)), (LINE,), (LINE, (O, H), 2), (), [LINE, (O, H)],
                ((0, (ONE, ZERO, 1), ()), (O, H))]
         self.check_thing(function, good, bad)
+        for thing, answer in ((good[0], True), (bad[0], False), (as_lists(good[0]), False)):
+            quest = as_lists(DEEP)
+            self.assertIs(is_against(quest=quest, thing=thing, level=2), answer)
+            self.assertIs(is_against(quest, thing, 2), answer)
+            self.assertEqual(quest, as_lists(DEEP))
         self.assertIs(is_against(DEEP, (LINE, ((O, H), (Q, H))), 3), True)
         self.assertIs(is_against(DEEP, (LINE, ((O, H), (Q, H))), 4), False)
         self.assertIs(is_against(DEEP, (LINE, eight), 4), False)

@@ -3,8 +3,8 @@ from loopsbeside.forms import asked_forms
 from loopsbeside.free import rid
 from loopsbeside.lines import is_line, line_sum, lines, lots
 from loopsbeside.words import is_sum
-from tests.helper import Case, rng_of
-from tests.quests import (DEEP, H, MIXED, NAMED, NONE, NOT_WITHIN, NOTHING_ASKED, O, ONE, OVER_I, PAIR, ROWS_ONLY,
+from tests.helper import Case, as_lists, rng_of
+from tests.quests import (DEEP, H, MIXED, NAMED, NONE, NOT_WITHIN, NOTHING_ASKED, O, ONE, PAIR, ROWS_ONLY,
                           TOO_HEAVY, TOP, TWO, UNIT, ZERO, rich_quest)
 
 LINE_TRIPLE = (ONE, ZERO, 1)
@@ -49,7 +49,11 @@ class Lines(Case):
         for quest in (NONE, NOTHING_ASKED):
             self.assertIs(self.call(is_line, quest, None), False)
             self.assertIs(is_line(quest, (0, TOP, ())), False)
-        self.assertIs(is_line(quest=[[list(step) for step in TWO[0]], *TWO[1:]], thing=(0, TOP, ())), True)
+        for thing, answer in ((good[0], True), (bad[0], False), (as_lists(good[0]), False)):
+            quest = as_lists(MIXED)
+            self.assertIs(is_line(quest=quest, thing=thing), answer)
+            self.assertIs(is_line(quest, thing), answer)
+            self.assertEqual(quest, as_lists(MIXED))
 
     def test_line_sum(self):
         for quest in self.quests(1, 6):
@@ -96,6 +100,6 @@ class Lines(Case):
             for thing in (None, (0, TOP, ()), 7):
                 with self.assertRaises(TooMuch):
                     is_line(quest, thing)
-        self.fails(TooMuch, {}, line_sum, TOO_HEAVY, (0, TOP, ()))
-        self.assertEqual(line_sum((TOO_HEAVY[0][:4], (ZERO,) * 4, ()) and TWO, (0, TOP, (O,))), (((H,), (1, 2)),))
-        self.assertEqual(lines((((((), OVER_I),),), (ZERO,), ())), ())
+        # Ahead of NoPlace, which comes if nothing is asked.
+        self.fails(NoPlace, {"place": 0}, line_sum, (TOO_HEAVY[0][:4], (ZERO,) * 4, ()), (0, TOP, ()))
+        self.fails(TooMuch, {}, line_sum, (TOO_HEAVY[0], TOO_HEAVY[1], ()), (0, TOP, ()))

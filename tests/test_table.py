@@ -6,7 +6,7 @@ from loopsbeside.errors import TooMuch, Unfit
 from loopsbeside.lines import line_sum, lines, lots
 from loopsbeside.ratios import reduced
 from loopsbeside.table import columns, determinant, is_square, rank, square, table, unread
-from tests.helper import Case, pair, random_worth, ratio, rng_of
+from tests.helper import Case, as_lists, pair, random_worth, ratio, rng_of
 from tests.quests import (DEEP, H, MIXED, NAMED, NONE, NOT_WITHIN, NOTHING_ASKED, O, ONE, PAIR, Q, ROWS_ONLY, SQUARES,
                           SUM_OF_TWO, THREE, TOP, TWO, ZERO, rich_quest)
 
@@ -125,6 +125,11 @@ class Table(Case):
                ((first, second), (O, ((O, H), (Q, ((H, O), (H, (O, O))))))), ((first, second), (H, H)),
                ((first, second), ((O, H), Q)), ((first, (0, TOP, (H,))), (O, H)), ((first, second), (O, (H,)))]
         self.check_thing(function, good, bad)
+        for thing, answer in ((good[0], True), (bad[0], False), (as_lists(good[0]), False)):
+            quest = as_lists(TWO)
+            self.assertIs(is_square(quest=quest, thing=thing), answer)
+            self.assertIs(is_square(quest, thing), answer)
+            self.assertEqual(quest, as_lists(TWO))
         for quest in (NONE, NOTHING_ASKED, ROWS_ONLY):
             self.assertIs(is_square(quest, ((), ())), True)
             for thing in (((), (H,)), ((first,), ()), (), None, [(), ()]):
