@@ -286,6 +286,30 @@ class Blocks(Case):
             self.assertIs(is_blocks_within((1, (ONE,), (ZERO,), (((((), ((ONE, place, -1, ONE),)),),),),
                                             ((0, 3, 0),), ()), 1), True)
 
+    def test_bounds_within(self):
+        def powered(power, row):
+            """An accumulator of this power of one that counts, once read as it is, once to the power power."""
+            return (1, (ONE, ONE), (ZERO, ZERO), ((((((), UNIT)),),), ((((power,), row),),)), ((0, 1, 0), (1, 1, 0)), ())
+
+        for power in range(1, 8):
+            self.assertIs(is_blocks_within(powered(power, UNIT), 1), power <= 5)
+            asked = powered(1, UNIT)[:5] + (((((power, 0), UNIT),),),)
+            self.assertIs(is_blocks_within(asked, 1), power <= 6)
+            # The second one is as long as 2.
+            asked = powered(1, UNIT)[:5] + (((((0, power), UNIT),),),)
+            self.assertIs(is_blocks_within(asked, 1), power <= 3)
+        for power in range(1, 8):
+            row = ((ONE, ZERO, -power, ONE),)
+            self.assertIs(is_blocks_within(powered(1, row), 1), power <= 4)
+            self.assertIs(is_blocks_within(powered(1, ((((2, 1), ZERO, 0, ONE)),)), power), power <= 4)
+            heavy = powered(1, OVER_I)[:5] + (((((0, power), UNIT),),),)
+            self.assertIs(is_blocks_within(heavy, 1), power <= 3)
+            heavy = powered(1, UNIT)[:5] + (((((0, 0), ((((1, 2), ZERO, 0, ONE)),)),),),)
+            self.assertIs(is_blocks_within(heavy, power), power <= 4)
+            # The greatest a of the reads counts.
+            heavy = heavy[:4] + (((0, 2, 0), (1, 1, 0)), heavy[5])
+            self.assertIs(is_blocks_within(heavy, power), power <= 2)
+
     def test_far_reads(self):
         # a n + b, with b past a block, and rounds that begin in the middle of the rests.
         one = (3, (ONE,), ((1, 2),), ((((((), UNIT)),), ((((), ((ONE, ZERO, 1, ONE),))),), ()),), ((0, 1, 2), (0, 3, 3)),
