@@ -7,7 +7,7 @@ from loopsbeside.formulas import counted, fixed_formula, minus_formulas, plus_fo
 from loopsbeside.forms import asked_forms, forms
 from loopsbeside.letters import row_of_letter
 from loopsbeside.lines import coming
-from loopsbeside.ratios import LESS_ONE, ONE, ZERO, over, pairs_of, scaled_table, take_off
+from loopsbeside.ratios import LESS_ONE, ONE, ZERO, over, pairs_of, scaled_table, take_heads_off
 from loopsbeside.rows import add_row, rows_of
 from loopsbeside.table import rank, rank_of
 from loopsbeside.terms import part_sum, triples_of
@@ -86,7 +86,7 @@ def _heads(ring, weight):
         for places in _products_up_to(ring, weight, place):
             mix = {places: ONE}
             table = words_table(_product(ring, places))
-            _clear(mix, table, heads)
+            take_heads_off(mix, table, heads)
             word = min([_rank_of_word(word) for word in table if word_weight(word) == weight])[1]
             x = over(ONE, table[word])
             heads.append((word, scaled_table(mix, x), scaled_table(table, x)))
@@ -101,15 +101,6 @@ def _rank_of_word(word):
     return (-len(word), word)
 
 
-def _clear(mix, table, heads):
-    """Takes multiples of the heads off a mix and its table of WORDS, so that the table has no WORD of a head."""
-    for word, other_mix, other in heads:
-        if word in table:
-            x = table[word]
-            take_off(table, x, other)
-            take_off(mix, x, other_mix)
-
-
 def without_products(ring, one):
     """The pair (mix, SUM): one is the mix of products and the SUM, which has no WORD of a head.
 
@@ -118,7 +109,7 @@ def without_products(ring, one):
     left = words_table(one)
     less = {}
     for weight in range(sum_weight(one), -1, -1):
-        _clear(less, left, _heads(ring, weight))
+        take_heads_off(less, left, _heads(ring, weight))
     return (scaled_table(less, LESS_ONE), pairs_of(left))
 
 

@@ -1,7 +1,8 @@
 """From a NEST to one loop alike, and from a QUEST to a NEST alike."""
 
-from loopsbeside.formulas import accumulator, fixed_formula, minus_formulas, more_formula, named, narrowed, placed
-from loopsbeside.formulas import plus_formulas, put_in
+from loopsbeside.back import late_formulas
+from loopsbeside.formulas import accumulator, fixed_formula, more_formula, named, narrowed, placed, plus_formulas
+from loopsbeside.formulas import put_in
 from loopsbeside.kinds import firm
 from loopsbeside.nests import measured_quest
 from loopsbeside.programs import need_within
@@ -52,7 +53,7 @@ def nest_of(quest, late=False):
     # The cells begin at 0, so each start is put into the FORMULAS instead.
     steps = [put_in(step, _begun(starts, place), place) for place, step in enumerate(program)]
     if late:
-        steps = _steps_from_late(steps)
+        steps = late_formulas(steps)
     told = [put_in(formula, _begun(starts, many), many) for formula in asked]
     places = sorted({place for formula in told for place in named(formula)})
     nest = _chain([more_formula(step, many) for step in steps], places, late)
@@ -62,20 +63,6 @@ def nest_of(quest, late=False):
 def _begun(starts, many):
     """The list of the FORMULAS of many accumulators that add its start to each one."""
     return [plus_formulas(accumulator(place, many), fixed_formula(starts[place], many)) for place in range(many)]
-
-
-def _steps_from_late(steps):
-    """The STEPS as FORMULAS of the values that the accumulators have after the round."""
-    found = []
-    for place, step in enumerate(steps):
-        before = [_less_step(found, at, place) for at in range(place)]
-        found.append(put_in(step, before, place))
-    return found
-
-
-def _less_step(late_steps, place, many):
-    """The FORMULA of many accumulators after a round that gives the one at place before it."""
-    return minus_formulas(accumulator(place, many), more_formula(late_steps[place], many))
 
 
 def _chain(steps, places, late):

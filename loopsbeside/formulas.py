@@ -8,10 +8,10 @@ from loopsbeside.rows import plus_keyed, row_worth, rows_of, scaled, times_rows
 
 def is_formula(thing, many):
     """Whether thing is a FORMULA of so many accumulators."""
-    return is_table(thing, lambda powers: _is_powers(powers, many), is_some_row)
+    return is_table(thing, lambda powers: is_powers(powers, many), is_some_row)
 
 
-def _is_powers(thing, many):
+def is_powers(thing, many):
     """Whether thing is a tuple of so many numbers from 0."""
     return is_tuple(thing, many) and all([is_number(power) and power >= 0 for power in thing])
 
@@ -96,11 +96,9 @@ def placed(formula, places, many):
 
 
 def narrowed(formula, places):
-    """The FORMULA as one of the accumulators at these places alone, in their order; it names no others.
-
-    The places ascend, so the pairs stay in order.
-    """
-    return tuple([(tuple([powers[place] for place in places]), row) for powers, row in formula])
+    """The FORMULA as one of the accumulators at these places alone, in their order; it names no others."""
+    # No two pairs have the same powers, so only these are compared.
+    return tuple(sorted([(tuple([powers[place] for place in places]), row) for powers, row in formula]))
 
 
 def accumulator(place, many):
@@ -110,9 +108,17 @@ def accumulator(place, many):
 
 def fixed_formula(x, many):
     """The FORMULA of many accumulators that is the FRACTION x."""
-    if x[0] == 0:
-        return ()
-    return (((0,) * many, scaled(ONE_ROW, x)),)
+    return row_formula(scaled(ONE_ROW, x), many)
+
+
+def row_formula(row, many):
+    """The FORMULA of many accumulators that is the ROW."""
+    return (((0,) * many, row),) if row != () else ()
+
+
+def parts_of(formula):
+    """The dict from pairs (powers, triple) to the worths of the PARTS of the FORMULA."""
+    return {(powers, part[:3]): part[3] for powers, row in formula for part in row}
 
 
 def counted(places, order):

@@ -120,6 +120,18 @@ def take_off(table, x, other):
             del table[key]
 
 
+def take_heads_off(mix, table, heads):
+    """Takes multiples of the heads off a table, so that it has no key of a head, and off its mix.
+
+    A head is a triple (key, mix, table): its table has 1 at its key, and nothing at the keys of earlier heads.
+    """
+    for key, other_mix, other in heads:
+        if key in table:
+            x = table[key]
+            take_off(table, x, other)
+            take_off(mix, x, other_mix)
+
+
 def scaled_table(table, x):
     """The table with x times what this one has; x is not 0."""
     return {key: times(y, x) for key, y in table.items()}

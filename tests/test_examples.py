@@ -5,7 +5,8 @@ import os
 import unittest
 
 MODULES = ["errors", "ratios", "rows", "letters", "words", "terms", "formulas", "programs", "forms", "nests", "flat",
-           "leastnest", "blocks", "free", "brackets", "lines", "table", "levels", "shallow", "fewest", "newones"]
+           "leastnest", "blocks", "free", "brackets", "lines", "table", "levels", "shallow", "fewest", "newones",
+           "equations", "slopes", "starts", "back", "passes"]
 EXAMPLES = os.path.join(os.path.dirname(os.path.abspath(__file__)), "examples.txt")
 
 
@@ -48,7 +49,7 @@ class Examples(unittest.TestCase):
                 if getattr(value, "__module__", None) == module.__name__ and not name.startswith("_"):
                     names[name] = value
         found = examples()
-        self.assertGreater(len(found), 140)
+        self.assertGreater(len(found), 180)
         for section, source, printed in found:
             with self.subTest(section=section, source=source):
                 self.assertEqual(outcome(source, names), printed)

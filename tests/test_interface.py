@@ -52,6 +52,15 @@ INTERFACE = {
     "newones": "step_of(program, formula), split_step(program, step, starts=None), "
                "formula_for(program, step, starts=None), is_new(program, step, starts=None), "
                "all_formulas(program, starts=None), new_places(program, starts=None), dropped(quest)",
+    "equations": "is_equation(thing, many), equation_at(equation, worths), holds(quest, equation), "
+                 "equations(quest, degree), normal_form(quest, degree, equation), follows(quest, degree, equation)",
+    "slopes": "free_asked(quest)",
+    "starts": "with_starts(quest, starts), by_start(quest, place), is_noticed(quest, place), noticed(quest)",
+    "back": "undone(program, state, i), start_of(program, state, rounds), carried(program, state, i, j), "
+            "before_round(formula, program), late_steps(program), program_of_late(steps)",
+    "passes": "trimmed(quest), fused(quest, other), split_up(quest, lots), reordered(quest, order), "
+              "peeled(quest, many), parted(quest, place), exchanged(quest, place), telescoped(quest), joined(quest), "
+              "settled(quest), halved(rows), is_pass(thing), passed(quest, passes)",
 }
 
 
