@@ -2,7 +2,7 @@
 
 from loopsbeside.fewest import few
 from loopsbeside.formulas import power_worth
-from loopsbeside.ratios import ONE, ZERO, number_power, over, plus, power_of, reduced, times, whole
+from loopsbeside.ratios import ZERO, over, plus, power_of, reduced, times, whole
 
 POINTS = 4
 # Numbers far apart from all that is passed in, each from the one before it.

@@ -6,7 +6,7 @@ from loopsbeside.forms import asked_forms_of
 from loopsbeside.kinds import firm
 from loopsbeside.passes import trimmed
 from loopsbeside.programs import need_within
-from loopsbeside.ratios import ONE, ZERO
+from loopsbeside.ratios import ZERO
 
 
 def with_starts(quest, starts):

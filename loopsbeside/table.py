@@ -84,16 +84,24 @@ def head_places(rows):
 def is_square(quest, thing):
     """Whether thing is a pair of LINES and BRACKETS that shows that fewer accumulators are not enough."""
     terms = asked_forms(quest)
+    return square_size(terms, thing) == rank_of(terms)
+
+
+def square_size(terms, thing):
+    """How many LINES a pair of as many LINES and BRACKETS has, None if thing is none or has the determinant 0.
+
+    The LINES are those of a QUEST whose asked values have these FORMS.
+    """
     if not (is_tuple(thing, 2) and is_tuple_of(thing[0], lambda line: is_line_of(line, len(terms)))):
-        return False
+        return None
     own_lines, brackets = thing
-    if not is_tuple_of(brackets, is_bracket):
-        return False
-    many = rank_of(terms)
-    if len(own_lines) != many or len(brackets) != many:
-        return False
+    if not (is_tuple_of(brackets, is_bracket) and len(own_lines) == len(brackets)):
+        return None
+    # More rows than the rank are combinations of one another, however many things are passed.
+    if len(own_lines) > rank_of(terms):
+        return None
     rows = [tuple([reading(bracket, line_sum_of(terms, line)) for bracket in brackets]) for line in own_lines]
-    return determinant(rows)[0] != 0
+    return len(own_lines) if determinant(rows)[0] != 0 else None
 
 
 def determinant(rows):

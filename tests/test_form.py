@@ -11,9 +11,12 @@ repr any all divmod Exception ValueError TypeError KeyError IndexError LookupErr
 LIBRARY = {"math": ["gcd", "lcm", "isqrt", "comb", "perm", "factorial"],
            "itertools": ["product", "combinations", "permutations"]}
 METHODS = """append clear copy count endswith extend find get index insert isdigit items join keys partition pop
-remove replace reverse setdefault split splitlines startswith strip update values bit_length""".split()
+remove replace reverse setdefault split splitlines startswith strip update values bit_length zfill""".split()
 NOT_ALLOWED = (ast.AsyncFunctionDef, ast.Await, ast.Global, ast.Nonlocal, ast.Div, ast.JoinedStr, ast.Yield,
-               ast.GeneratorExp, ast.NamedExpr, ast.With, ast.Try, ast.Match, ast.AnnAssign)
+               ast.GeneratorExp, ast.NamedExpr, ast.With, ast.Match, ast.AnnAssign)
+OWN_ERRORS = ["NoPlace", "NothingDone", "BadLine", "CanNot", "TooMuch", "Unfit"]
+AT_ONCE = ["range", "zip", "enumerate", "reversed"]
+TAKERS = ["list", "tuple", "dict", "sorted", "sum", "any", "all", "enumerate", "zip", "reversed"]
 BARRED = ["register", "mro", "elements", "open", "input", "law", "type", "id", "vars", "dir", "eval", "exec", "os"]
 
 
@@ -110,7 +113,9 @@ class Form(unittest.TestCase):
     def test_expressions(self):
         stored = [node.attr for _, text in sources() for node in ast.walk(ast.parse(text))
                   if isinstance(node, ast.Attribute) and isinstance(node.ctx, ast.Store)]
-        self.assertEqual([name for name in stored if name in METHODS], [])
+        methods = [node.name for _, text in sources() for owner in ast.walk(ast.parse(text))
+                   if isinstance(owner, ast.ClassDef) for node in owner.body if isinstance(node, ast.FunctionDef)]
+        self.assertEqual([name for name in stored if name in METHODS or name in methods], [])
         for name, text in sources():
             tree = ast.parse(text)
             for node in ast.walk(tree):
@@ -118,11 +123,31 @@ class Form(unittest.TestCase):
                 if isinstance(node, ast.Constant):
                     self.assertNotIsInstance(node.value, (float, complex, bytes), name)
                 if isinstance(node, ast.Attribute):
-                    self.assertTrue(node.attr in METHODS or node.attr in stored, (name, node.attr))
+                    self.assertTrue(node.attr in METHODS + stored + methods, (name, node.attr))
                 if isinstance(node, ast.Compare) and isinstance(node.ops[0], (ast.Is, ast.IsNot)):
                     self.assertIn(node.comparators[0].value, [None, True, False], name)
                 if isinstance(node, ast.BinOp) and isinstance(node.op, ast.Pow):
                     self.assertIsInstance(node.right, ast.Constant, name)
+                if isinstance(node, ast.ExceptHandler):
+                    self.assertIn(node.type.id, OWN_ERRORS, name)
+                    self.assertIsNone(node.name, name)
+                if isinstance(node, ast.Raise):
+                    self.assertIn(node.exc.func.id, OWN_ERRORS, name)
+
+    def test_iterated_at_once(self):
+        for name, text in sources():
+            tree = ast.parse(text)
+            held = []
+            for node in ast.walk(tree):
+                if isinstance(node, (ast.For, ast.comprehension)):
+                    held.append(id(node.iter))
+                elif isinstance(node, ast.Call) and isinstance(node.func, ast.Name) and node.func.id in TAKERS:
+                    held.extend(id(arg) for arg in node.args)
+            for node in ast.walk(tree):
+                if isinstance(node, ast.Call) and isinstance(node.func, ast.Name) and node.func.id in AT_ONCE:
+                    self.assertIn(id(node), held, (name, node.lineno))
+                if isinstance(node, ast.Call) and isinstance(node.func, ast.Attribute) and node.func.attr == "items":
+                    self.assertIn(id(node), held, (name, node.lineno))
 
     def test_no_star_in_an_index(self):
         for name, text in sources():
@@ -139,12 +164,25 @@ class Form(unittest.TestCase):
             for node in ast.walk(tree):
                 if isinstance(node, (ast.SetComp, ast.Set)):
                     self.assertIn(id(node), held, name)
+                if isinstance(node, ast.Set):
+                    self.assertEqual([part for part in node.elts if isinstance(part, ast.Starred)], [], name)
 
     def test_module_level(self):
         for name, text in sources():
+            above = []
             for at, node in enumerate(ast.parse(text).body):
                 docstring = at == 0 and isinstance(node, ast.Expr) and isinstance(node.value, ast.Constant)
                 kinds = (ast.ImportFrom, ast.FunctionDef, ast.ClassDef, ast.Assign)
                 self.assertTrue(docstring or isinstance(node, kinds), name)
+                if isinstance(node, ast.FunctionDef):
+                    above.append(node.name)
                 if isinstance(node, ast.Assign):
-                    ast.literal_eval(node.value)
+                    self.assertEqual(len(node.targets), 1, name)
+                    self.check_plain(node.value, above)
+
+    def check_plain(self, value, above):
+        """A literal value, or a table of functions that are defined above."""
+        if isinstance(value, ast.Dict) and all(isinstance(part, ast.Name) for part in value.values):
+            self.assertEqual([part.id for part in value.values if part.id not in above], [])
+            value = ast.Dict(keys=value.keys, values=value.keys)
+        ast.literal_eval(value)
