@@ -85,7 +85,8 @@ class Equations(Case):
 
     def test_is_equation(self):
         good = [(), (((0, 0), ONE),), (((0, 1), (-2, 3)), ((3, 0), ONE)), (((0, 90), ONE), ((7, 0), (10 ** 40, 7)))]
-        bad = [(((0,), ONE),), (((0, 0), ZERO),), (((0, 0), (2, 4)),), (((-1, 0), ONE),), (((1, 0), ONE), ((0, 1), ONE)),
+        bad = [(((0,), ONE),), (((0, 0), ZERO),), (((0, 0), (2, 4)),), (((-1, 0), ONE),),
+               (((1, 0), ONE), ((0, 1), ONE)),
                (((1, 0), ONE), ((1, 0), ONE)), ((0, 0), ONE), (((0, 0), UNIT),), (((0, 0, 0), ONE),), (((), ONE),)]
         self.check_thing(is_equation, good, bad, 2)
         self.check_thing(is_equation, [(), (((), (3, 2)),)], [(((), ONE), ((), ONE)), (((0,), ONE),)], 0)

@@ -6,7 +6,7 @@ import unittest
 
 MODULES = ["errors", "ratios", "rows", "letters", "words", "terms", "formulas", "programs", "forms", "nests", "flat",
            "leastnest", "blocks", "free", "brackets", "lines", "table", "levels", "shallow", "fewest", "newones",
-           "equations", "slopes", "starts", "back", "passes"]
+           "equations", "slopes", "starts", "back", "passes", "machine", "code", "papers", "texts", "board", "desk"]
 EXAMPLES = os.path.join(os.path.dirname(os.path.abspath(__file__)), "examples.txt")
 
 
@@ -49,7 +49,7 @@ class Examples(unittest.TestCase):
                 if getattr(value, "__module__", None) == module.__name__ and not name.startswith("_"):
                     names[name] = value
         found = examples()
-        self.assertGreater(len(found), 180)
+        self.assertEqual(len(found), 226)
         for section, source, printed in found:
             with self.subTest(section=section, source=source):
                 self.assertEqual(outcome(source, names), printed)

@@ -1,7 +1,8 @@
-"""The names and arguments of the document's interface, as far as it is built."""
+"""The names and arguments of the document's interface."""
 
 import importlib
 import inspect
+import os
 import re
 import unittest
 
@@ -61,7 +62,23 @@ INTERFACE = {
     "passes": "trimmed(quest), fused(quest, other), split_up(quest, lots), reordered(quest, order), "
               "peeled(quest, many), parted(quest, place), exchanged(quest, place), telescoped(quest), joined(quest), "
               "settled(quest), halved(rows), is_pass(thing), passed(quest, passes)",
+    "code": "is_code(thing), held_after(instructions, many), compiled(quest), read_code(code), "
+            "is_right_code(quest, code), tight(quest)",
+    "machine": "worked(instructions, contents, i), run_code(code, n), needed_cells(instructions, later), "
+               "kept_cells(code), cell_count(code), lean_code(code), scratch_cells(code), packed_code(code)",
+    "papers": "is_claim(quest, thing), stands(quest, claim), paper_for(quest, claim), paper_against(quest, claim), "
+              "is_paper_for(quest, claim, thing), is_paper_against(quest, claim, thing), "
+              "first_fallen(quest, claims), sharp(quest), bounds_shown(quest, things)",
+    "texts": "text_of_row(row), text_of_quest(quest), text_of_nest(nest, asked), row_by(text), quest_by(text), "
+             "nest_by(text), least_text(text)",
+    "board": "Board(quest)",
+    "desk": "desk(text), is_request(thing), form_text(term), claim_text(claim), claim_by(text)",
 }
+
+
+BOARD = ("quest(), moment(), tickets(), state(), answers(), value(ticket), least(), stays(ticket), parted(ticket), "
+         "add_step(step, start), change(place, step), begin_at(place, start), drop(place), ask(formula), "
+         "drop_ask(ticket), round_on(many), make(name), undo()")
 
 
 class Interface(unittest.TestCase):
@@ -75,3 +92,16 @@ class Interface(unittest.TestCase):
                     self.assertEqual(str(inspect.signature(thing)), "(" + arguments + ")", name)
                 elif arguments:
                     self.assertEqual(str(inspect.signature(thing)), "(" + arguments + ")", name)
+
+    def test_methods(self):
+        board = importlib.import_module("loopsbeside.board").Board
+        for name, arguments in re.findall(r"(\w+)\(([^)]*)\)", BOARD):
+            expected = "(self, " + arguments + ")" if arguments else "(self)"
+            self.assertEqual(str(inspect.signature(vars(board)[name])), expected, name)
+        self.assertEqual(board.__bases__, (object,))
+
+    def test_all_files(self):
+        # Each file that the document lists, and the two that the others share.
+        folder = os.path.dirname(importlib.import_module("loopsbeside").__file__)
+        files = sorted(name[:-3] for name in os.listdir(folder) if name.endswith(".py"))
+        self.assertEqual(files, sorted([*INTERFACE, "__init__", "kinds", "sums"]))

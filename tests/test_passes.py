@@ -335,7 +335,8 @@ class Passes(Case):
         tried = [(), (OVER_I,), ((), OVER_I), (OVER_I, ODD), (OVER_I, ODD, THIRD), (THIRD, OVER_I, OVER_I, ODD),
                  (UNIT, LINE, OVER_I, ODD, UNIT, OVER_I), (UNIT,) * 6, (GONE, LINE, GONE)]
         tried += [tuple(rich_row(rng) for _ in range(rng.randint(1, 4))) for _ in range(6)]
-        tried += [tuple(random_row(rng, 2, [ZERO, ONE, (-1, 2)], -1) for _ in range(rng.randint(1, 3))) for _ in range(8)]
+        tried += [tuple(random_row(rng, 2, [ZERO, ONE, (-1, 2)],
+                                   -1) for _ in range(rng.randint(1, 3))) for _ in range(8)]
         highest = set()
         for rows in tried:
             program = plain_chain(*rows)
@@ -362,7 +363,8 @@ class Passes(Case):
                 ("exchanged", 10 ** 40), ("reordered", ()), ("reordered", (0, 0, -1)), ("reordered", (1, 0))]
         bad = [("parted",), ("exchanged",), ("reordered",), ("trimmed", 0), ("fused",), ("peeled", 1), ("reordered", 0),
                ("reordered", [0]), ("reordered", (True,)), "trimmed", (("trimmed",),), ("Trimmed",), ("settled", ()),
-               ("parted", (0,)), ("parted", 0, 0), ("parted", True), ("halved",), (["trimmed"],), ("reordered", (0,), 1)]
+               ("parted", (0,)), ("parted", 0, 0), ("parted", True), ("halved",), (["trimmed"],),
+               ("reordered", (0,), 1)]
         self.check_thing(is_pass, good, bad)
 
     def test_passed(self):
