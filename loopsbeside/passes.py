@@ -144,13 +144,19 @@ def _shifted_formula(formula, many):
 
 def parted(quest, place):
     """The QUEST with an accumulator for each pair of the STEP at place. Raises TooMuch() or NoPlace(place)."""
-    program, starts, asked = _taken(quest)
-    _need_place(program, place)
+    quest = _taken(quest)
+    _need_place(quest[0], place)
+    return _replaced(quest, place, _kept_pairs)
+
+
+def _replaced(quest, place, keep):
+    """The QUEST with what keep adds for the accumulator at place, and returns as what this one is put in as."""
+    program, starts, asked = quest
     making = Making()
     for at, (step, start) in enumerate(zip(program, starts)):
         own = _step_after(making, step)
         if at == place:
-            _put(making, _kept_pairs(making, own, start))
+            _put(making, keep(making, own, start))
         else:
             _keep_as_it_is(making, own, start)
     return _made(making, asked)
@@ -171,18 +177,12 @@ def _kept_pairs(making, step, start):
 
 def exchanged(quest, place):
     """The QUEST with a product of sums for the loop in loops at place. Raises TooMuch(), NoPlace(place) or Unfit()."""
-    program, starts, asked = _taken(quest)
-    _need_place(program, place)
-    if len(program[place]) != 1 or named(program[place]) == ():
+    quest = _taken(quest)
+    _need_place(quest[0], place)
+    step = quest[0][place]
+    if len(step) != 1 or named(step) == ():
         raise Unfit()
-    making = Making()
-    for at, (step, start) in enumerate(zip(program, starts)):
-        own = _step_after(making, step)
-        if at == place:
-            _put(making, _kept_exchange(making, own, start))
-        else:
-            _keep_as_it_is(making, own, start)
-    return _made(making, asked)
+    return _replaced(quest, place, _kept_exchange)
 
 
 def _kept_exchange(making, step, start):

@@ -177,13 +177,13 @@ def _read_body_line(scan, loops, used):
     while takes(scan, "  "):
         around += 1
     if around > 0 and around == len(loops) - 1 and loops[-1].steps:
-        _close(loops)
+        _close_loop(loops)
     if around != len(loops):
         raise BadLine(scan.line)
     loop = loops[-1]
     counter = "i" + digits_of(around)
     if takes(scan, "for "):
-        _open(scan, loops, "i" + digits_of(around + 1) + " to " + counter)
+        _open_loop(scan, loops, "i" + digits_of(around + 1) + " to " + counter)
         return
     name = word_of(scan)
     if not is_name(name) or name in used:
@@ -194,7 +194,7 @@ def _read_body_line(scan, loops, used):
     used[name] = True
 
 
-def _close(loops):
+def _close_loop(loops):
     """Takes the innermost open loop, which is at its end, into the one around it."""
     loop = loops.pop()
     around = loops[-1]
@@ -203,7 +203,7 @@ def _close(loops):
         around.known[name] = len(around.known)
 
 
-def _open(scan, loops, late_bounds):
+def _open_loop(scan, loops, late_bounds):
     """Opens an inner loop; these signs, up to the end of the line, say that it is late. Raises BadLine(line)."""
     if loops[-1].steps:
         raise BadLine(scan.line)
