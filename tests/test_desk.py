@@ -7,7 +7,7 @@ from loopsbeside.leastnest import least_nest
 from loopsbeside.papers import sharp, stands
 from loopsbeside.passes import passed
 from loopsbeside.texts import nest_by, quest_by, text_of_nest, text_of_quest
-from tests.helper import Case, light_formula, plain_values, rng_of
+from tests.helper import JUNK, Case, light_formula, plain_values, rng_of
 from tests.quests import (DEEP, MIXED, NAMED, NONE, NOTHING_ASKED, O, ONE, PAIR, SQUARES, STARTED, SUM_OF_TWO,
                           TOO_HEAVY,
                           TWO, UNIT, ZERO, rich_quest)
@@ -291,8 +291,8 @@ class Desk(Case):
                "after ", "values 0", "alike", "parting", "nest", "at \u0661", "quest\n x\n", "alike\n x\n\n y", "x",
                "Quest\n x", "quest\r\n x",
                0, 1, True, None, [], ["moment"], ("moment",), (), ("moment", "moment")]
-        for thing in bad:
-            self.assertIs(is_request(thing), False, repr(thing))
+        for thing in bad + JUNK:
+            self.assertIs(is_request(thing), False, repr(thing)[:300])
 
     def test_requests_of_every_shape_are_worked(self):
         # What is a request by its shape alone has a reply, if only a refusal.

@@ -210,6 +210,14 @@ class Papers(Case):
         near = (((((), ((ONE, (15, 1), -1, ONE),)),),), (ZERO,), own_asked())
         self.assertIs(is_paper_for(rows_quest(LINE), ("level", 5), near), True)
 
+    def test_accumulators_alone(self):
+        # The square is one of the QUEST that asks each accumulator up to the place, whatever is asked.
+        quest = SQUARES[:2] + ((),)
+        paper = ((), square(asks(SQUARES[0][:2], 0, 1)))
+        self.assertIs(is_paper_for(quest, ("new", 1), paper), True)
+        self.assertIs(is_paper_for(quest, ("new", 0), paper), False)
+        self.assertIs(is_paper_for(quest, ("new", 2), ((), paper[1])), False)
+
     def test_papers_of_nests(self):
         loop = ((), ((((), OVER_I),),))
         late = (((loop, True),), ((((1,), OVER_I),),))

@@ -332,7 +332,8 @@ class Passes(Case):
 
     def test_halved(self):
         rng = rng_of(15)
-        tried = [(), (OVER_I,), ((), OVER_I), (OVER_I, ODD), (OVER_I, ODD, THIRD), (THIRD, OVER_I, OVER_I, ODD),
+        tried = [(), ((),), ((), ()), (OVER_I, ()), (OVER_I,), ((), OVER_I), (OVER_I, ODD), (OVER_I, ODD, THIRD),
+                 (THIRD, OVER_I, OVER_I, ODD),
                  (UNIT, LINE, OVER_I, ODD, UNIT, OVER_I), (UNIT,) * 6, (GONE, LINE, GONE)]
         tried += [tuple(rich_row(rng) for _ in range(rng.randint(1, 4))) for _ in range(6)]
         tried += [tuple(random_row(rng, 2, [ZERO, ONE, (-1, 2)],
