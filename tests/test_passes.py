@@ -333,11 +333,10 @@ class Passes(Case):
     def test_halved(self):
         rng = rng_of(15)
         tried = [(), ((),), ((), ()), (OVER_I, ()), (OVER_I,), ((), OVER_I), (OVER_I, ODD), (OVER_I, ODD, THIRD),
-                 (THIRD, OVER_I, OVER_I, ODD),
-                 (UNIT, LINE, OVER_I, ODD, UNIT, OVER_I), (UNIT,) * 6, (GONE, LINE, GONE)]
+                 (THIRD, OVER_I, OVER_I, ODD), (UNIT, LINE, OVER_I, ODD, UNIT, OVER_I), (UNIT,) * 6, (GONE, LINE, GONE)]
         tried += [tuple(rich_row(rng) for _ in range(rng.randint(1, 4))) for _ in range(6)]
-        tried += [tuple(random_row(rng, 2, [ZERO, ONE, (-1, 2)],
-                                   -1) for _ in range(rng.randint(1, 3))) for _ in range(8)]
+        for _ in range(8):
+            tried.append(tuple(random_row(rng, 2, [ZERO, ONE, (-1, 2)], -1) for _ in range(rng.randint(1, 3))))
         highest = set()
         for rows in tried:
             program = plain_chain(*rows)
