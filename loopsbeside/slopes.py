@@ -16,7 +16,8 @@ def free_asked(quest):
 
     A value has slopes in n, 2^n, 3^n and the new accumulators, which are free of one
     another. Values are free of one another if their slopes are, as vectors, and
-    they are so already if they are at one point.
+    they are so already if they are at one point. The points are so far out that
+    slopes which are not free at any of them are taken as not free at all.
     """
     program, _, asked = few(quest)
     points = _points(len(program))
